@@ -1,0 +1,1 @@
+"""Mostcrowds: programs that ask how many of an unknown crowd."""

@@ -1,0 +1,273 @@
+"""The rules of LANGUAGE.md that can be seen in the text of the package's files."""
+
+import ast
+import builtins
+import pathlib
+import unittest
+import warnings
+
+PACKAGE = pathlib.Path(__file__).resolve().parent.parent / "mostcrowds"
+FILES = sorted(PACKAGE.rglob("*.py"))
+
+LIBRARY = {
+    "heapq": {"heappush", "heappop", "heapify", "heapreplace", "heappushpop"},
+    "math": {"gcd", "lcm", "isqrt", "comb", "perm", "factorial"},
+    "itertools": {
+        "product", "combinations", "permutations", "chain", "accumulate", "pairwise", "islice", "zip_longest",
+    },
+    "collections": {"defaultdict"},
+    "__future__": {"annotations"},
+}
+BUILTINS = set(
+    "len range enumerate zip min max sum abs sorted reversed int str bool bytes list tuple dict set frozenset isinstance "
+    "ord chr repr any all divmod pow getattr hasattr setattr iter next map super property staticmethod classmethod object "
+    "Exception ValueError TypeError KeyError IndexError LookupError ZeroDivisionError ArithmeticError OverflowError "
+    "RuntimeError NotImplementedError AttributeError StopIteration NotImplemented".split()
+)
+SPECIAL = {
+    f"__{word}__"
+    for word in (
+        "init eq repr str len enter exit call iter lt le gt ge ne add sub mul floordiv mod pow and or xor lshift rshift "
+        "radd rsub rmul rfloordiv rmod rand ror rxor rlshift rrshift iadd isub imul ifloordiv imod ipow iand ior ixor "
+        "ilshift irshift neg pos invert abs bool contains getitem setitem"
+    ).split()
+}
+NOWHERE = set("register mro elements open input law version_info with_traceback add_note".split())
+NO_NAMES = set(
+    "attrgetter breakpoint builtins compile copyright credits delattr dir eval exec exit gc globals help id importlib "
+    "license locals methodcaller os quit type vars sys".split()
+)
+NO_WORDS = set(
+    "type typing typing_extensions enum Enum IntEnum StrEnum Flag IntFlag Generic Protocol ABC ABCMeta namedtuple "
+    "NamedTuple TypedDict TYPE_CHECKING abstractmethod".split()
+)
+METHODS = set(
+    "append clear copy count endswith extend find get index insert isalnum isalpha isdigit islower isspace isupper items "
+    "join keys ljust lower lstrip partition pop remove replace reverse rfind rjust rpartition rsplit rstrip setdefault split "
+    "splitlines startswith strip update upper values zfill bit_length title capitalize swapcase casefold center expandtabs "
+    "removeprefix removesuffix rindex isascii isdecimal isnumeric istitle isidentifier isprintable translate encode decode "
+    "hex add discard format sort from_iterable".split()
+)
+STATEMENTS = (
+    ast.Expr, ast.Assign, ast.AugAssign, ast.AnnAssign, ast.If, ast.While, ast.For, ast.Return, ast.Break, ast.Continue,
+    ast.Pass, ast.Raise, ast.Assert, ast.Delete, ast.Nonlocal, ast.Match, ast.With, ast.Try, ast.Import, ast.ImportFrom,
+    ast.FunctionDef, ast.ClassDef,
+)
+
+
+def parsed(path):
+    with warnings.catch_warnings():
+        warnings.simplefilter("error")
+        return ast.parse(path.read_text(encoding="utf-8"))
+
+
+def nodes(kind):
+    return [(path.name, node) for path in FILES for node in ast.walk(parsed(path)) if isinstance(node, kind)]
+
+
+def own_methods():
+    return {
+        part.name for _, node in nodes(ast.ClassDef) for part in node.body if isinstance(part, ast.FunctionDef)
+    }
+
+
+class Files(unittest.TestCase):
+    def test_nothing_else_stands_in_the_package(self):
+        others = [path for path in PACKAGE.rglob("*") if "__pycache__" not in path.parts and path not in FILES]
+        self.assertEqual(others, [])
+        self.assertIn(PACKAGE / "__init__.py", FILES)
+
+    def test_the_package_itself_is_empty(self):
+        body = parsed(PACKAGE / "__init__.py").body
+        self.assertEqual(len(body), 1)
+        self.assertTrue(ast.get_docstring(ast.Module(body, [])))
+
+    def test_characters_and_sizes(self):
+        for path in FILES:
+            text = path.read_text(encoding="utf-8")
+            self.assertTrue(all(letter == "\n" or " " <= letter <= "~" for letter in text), path.name)
+            self.assertLessEqual(text.count("\n"), 399, path.name)
+            for line in text.split("\n"):
+                self.assertLessEqual(len(line), 120, (path.name, line))
+
+    def test_functions_have_at_most_forty_lines(self):
+        for name, node in nodes(ast.FunctionDef):
+            self.assertLessEqual(node.end_lineno - node.lineno + 1, 40, (name, node.name))
+
+    def test_docstrings(self):
+        for path in FILES:
+            self.assertTrue(ast.get_docstring(parsed(path)), path.name)
+
+
+class Imports(unittest.TestCase):
+    def test_only_from_the_package_and_the_library(self):
+        for name, node in nodes((ast.Import, ast.ImportFrom)):
+            self.assertIsInstance(node, ast.ImportFrom, name)
+            self.assertEqual(node.level, 0, name)
+            words = {alias.name for alias in node.names}
+            if node.module in LIBRARY:
+                self.assertLessEqual(words, LIBRARY[node.module], name)
+            else:
+                self.assertRegex(node.module, r"\Amostcrowds\.[a-z_]+\Z", name)
+                self.assertLessEqual(words, self.defined(node.module), (name, node.module))
+            self.assertTrue(all(alias.asname is None for alias in node.names), name)
+
+    def defined(self, module):
+        found = set()
+        for node in parsed(PACKAGE / f"{module.split('.')[1]}.py").body:
+            if isinstance(node, (ast.FunctionDef, ast.ClassDef)):
+                found.add(node.name)
+            elif isinstance(node, ast.Assign):
+                found.add(node.targets[0].id)
+        return found
+
+    def test_no_circle(self):
+        needed = {
+            path.stem: {
+                node.module.split(".")[1]
+                for node in ast.walk(parsed(path))
+                if isinstance(node, ast.ImportFrom) and node.module.startswith("mostcrowds.")
+            }
+            for path in FILES
+        }
+        while needed:
+            ready = [stem for stem, others in needed.items() if not others & set(needed)]
+            self.assertTrue(ready, needed)
+            needed = {stem: others for stem, others in needed.items() if stem not in ready}
+
+
+class Statements(unittest.TestCase):
+    def test_module_level(self):
+        for path in FILES:
+            bound = []
+            for at, node in enumerate(parsed(path).body):
+                if isinstance(node, ast.Assign):
+                    self.assertTrue(len(node.targets) == 1 and isinstance(node.targets[0], ast.Name), path.name)
+                    bound.append(node.targets[0].id)
+                elif isinstance(node, ast.ImportFrom):
+                    bound.extend(alias.name for alias in node.names)
+                elif isinstance(node, ast.Expr):
+                    self.assertTrue(at == 0 and isinstance(node.value, ast.Constant), path.name)
+                else:
+                    self.assertIsInstance(node, (ast.FunctionDef, ast.ClassDef), path.name)
+                    bound.append(node.name)
+            self.assertEqual(sorted(bound), sorted(set(bound)), path.name)
+
+    def test_kinds_of_statements(self):
+        for name, node in nodes(ast.stmt):
+            self.assertIsInstance(node, STATEMENTS, (name, node.lineno))
+
+    def test_decorators(self):
+        for name, node in nodes((ast.FunctionDef, ast.ClassDef)):
+            for decorator in node.decorator_list:
+                told = ast.unparse(decorator)
+                self.assertTrue(told in ("property", "staticmethod", "classmethod") or told.endswith(".setter"), (name, told))
+
+    def test_raised_errors_are_made_on_the_spot(self):
+        for name, node in nodes(ast.Raise):
+            if node.exc is not None:
+                self.assertTrue(isinstance(node.exc, ast.Call) and isinstance(node.exc.func, ast.Name), (name, node.lineno))
+
+    def test_caught_errors(self):
+        for name, node in nodes(ast.ExceptHandler):
+            self.assertIsNotNone(node.type, name)
+            for word in ("Exception", "TypeError", "ArithmeticError", "RuntimeError", "AttributeError"):
+                self.assertNotIn(word, ast.unparse(node.type).split("."), name)
+
+
+class Expressions(unittest.TestCase):
+    def test_no_floats_and_no_division(self):
+        for name, node in nodes(ast.Constant):
+            self.assertNotIsInstance(node.value, (float, complex), name)
+        for name, node in nodes((ast.Div, ast.MatMult)):
+            self.fail((name, node))
+
+    def test_strings(self):
+        for path in FILES:
+            tree = parsed(path)
+            docs = {
+                id(node.body[0].value)
+                for node in ast.walk(tree)
+                if isinstance(node, (ast.Module, ast.ClassDef, ast.FunctionDef)) and ast.get_docstring(node) is not None
+            }
+            for node in ast.walk(tree):
+                if isinstance(node, ast.Constant) and isinstance(node.value, str):
+                    self.assertNotIn("%", node.value, path.name)
+                    if id(node) not in docs:
+                        self.assertFalse(node.value.endswith(("._", ".__")), path.name)
+                        self.assertFalse(NO_WORDS & set(node.value.replace("_", " ").split()), path.name)
+
+    def test_sorted_takes_what_is_plainly_strings_or_numbers(self):
+        for name, node in nodes(ast.Call):
+            if isinstance(node.func, ast.Name) and node.func.id == "sorted" and not node.keywords:
+                told = node.args[0]
+                is_set = isinstance(told, ast.Call) and ast.unparse(told.func) == "set"
+                self.assertTrue(is_set or isinstance(told, ast.ListComp), (name, node.lineno))
+
+    def test_lists_instead_of_generator_expressions(self):
+        for name, node in nodes((ast.GeneratorExp, ast.AsyncFor, ast.Await)):
+            self.fail((name, node.lineno))
+
+    def test_no_item_method_of_another_name(self):
+        allowed = METHODS | own_methods()
+        for name, node in nodes(ast.Call):
+            if isinstance(node.func, ast.Attribute):
+                self.assertIn(node.func.attr, allowed, (name, node.lineno))
+
+    def test_exponents_are_literals(self):
+        for name, node in nodes(ast.BinOp):
+            if isinstance(node.op, ast.Pow):
+                self.assertIsInstance(node.right, ast.Constant, (name, node.lineno))
+
+
+class Names(unittest.TestCase):
+    def bound(self):
+        """All names that the package gives a meaning, except methods and attributes."""
+        methods = {id(part) for _, node in nodes(ast.ClassDef) for part in node.body}
+        for path in FILES:
+            for node in ast.walk(parsed(path)):
+                if isinstance(node, ast.Name) and isinstance(node.ctx, ast.Store):
+                    yield path.name, node.id
+                elif isinstance(node, ast.arg):
+                    yield path.name, node.arg
+                elif isinstance(node, ast.ClassDef):
+                    yield path.name, node.name
+            for node in parsed(path).body:
+                if isinstance(node, ast.FunctionDef) and id(node) not in methods:
+                    yield path.name, node.name
+
+    def test_builtins_keep_their_meaning(self):
+        for name, word in self.bound():
+            self.assertFalse(hasattr(builtins, word), (name, word))
+
+    def test_only_some_builtins_are_used(self):
+        for name, node in nodes(ast.Name):
+            if hasattr(builtins, node.id):
+                self.assertIn(node.id, BUILTINS, (name, node.lineno))
+
+    def test_names_that_are_not_used(self):
+        for name, word in self.bound():
+            self.assertNotIn(word, NOWHERE | NO_NAMES | NO_WORDS, name)
+            self.assertFalse(word.startswith("__"), (name, word))
+        for name, node in nodes(ast.Attribute):
+            self.assertNotIn(node.attr, NOWHERE | NO_WORDS | {"format_map", "args"}, name)
+
+    def test_no_name_hides_an_import_or_a_class(self):
+        for path in FILES:
+            tree = parsed(path)
+            taken = {alias.name for node in tree.body if isinstance(node, ast.ImportFrom) for alias in node.names}
+            taken |= {node.name for node in tree.body if isinstance(node, ast.ClassDef)}
+            for node in ast.walk(tree):
+                if isinstance(node, ast.arg):
+                    self.assertNotIn(node.arg, taken, path.name)
+                elif isinstance(node, ast.Name) and isinstance(node.ctx, ast.Store):
+                    self.assertNotIn(node.id, taken, path.name)
+
+    def test_special_methods(self):
+        for name, node in nodes(ast.FunctionDef):
+            if node.name.startswith("__"):
+                self.assertIn(node.name, SPECIAL, name)
+
+
+if __name__ == "__main__":
+    unittest.main()
