@@ -35,3 +35,10 @@ def is_number(word, most):
     if not 1 <= len(word) <= most or not all([digit in DIGITS for digit in word]):
         return False
     return word == "0" or word[0] != "0"
+
+
+def is_kind(value):
+    """Whether a value is a kind as it may be passed: a sequence of different names in any order."""
+    if not is_sequence(value) or not all([is_name(name) for name in value]):
+        return False
+    return len(set(value)) == len(value)

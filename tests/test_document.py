@@ -2,8 +2,23 @@
 
 import unittest
 
+from mostcrowds.claims import Claim
+from mostcrowds.crowds import Crowd
+from mostcrowds.deciding import follows
 from mostcrowds.groups import Group
 from mostcrowds.kinds import kinds
+from mostcrowds.tallies import Tally
+
+a, b, c = [Group.named(name) for name in ("a", "b", "c")]
+
+
+class SectionOne(unittest.TestCase):
+    def test_claims(self):
+        most = Claim.share(a, b, 2, 3)
+        self.assertEqual(
+            (str(most), most.tally.weight(("a",)), most.tally.weight(("a", "b"))), ("least + 3 & a b - 2 a", -2, 1)
+        )
+        self.assertIs(follows([most, Claim.share(a, c, 1, 2)], Claim.share(a, b & c, 1, 6)), True)
 
 
 class SectionFour(unittest.TestCase):
@@ -11,7 +26,6 @@ class SectionFour(unittest.TestCase):
         self.assertEqual(kinds(["b", "a"]), ((), ("a",), ("b",), ("a", "b")))
 
     def test_groups(self):
-        a, b, c = [Group.named(name) for name in ("a", "b", "c")]
         two = Group.at_least(2, [a, b, c])
         self.assertEqual(
             (str(two), two == (a & b) | (a & c) | (b & c), two.has(["c", "a"]), a & b < two),
@@ -20,6 +34,26 @@ class SectionFour(unittest.TestCase):
         self.assertEqual(
             (str(~a - b), Group.read("- ~ a b") == ~(a | b), str(two.put({"b": a, "c": Group.nothing()}))),
             ("- ~ a b", True, "at 2 3 a a none"),
+        )
+
+
+class SectionsFiveAndSix(unittest.TestCase):
+    def test_crowds(self):
+        crowd = Crowd([(("b", "a"), 3), ((), 1), (["c"], 2)])
+        self.assertEqual(
+            (str(crowd), crowd.size, crowd.count(a | c), str(crowd.only(~a)), crowd[("a", "b")]),
+            ("1, 3 a b, 2 c", 6, 5, "1, 2 c", 3),
+        )
+
+    def test_tallies_and_claims(self):
+        crowd = Crowd([(("b", "a"), 3), ((), 1), (["c"], 2)])
+        t = Tally.of(a) * 2 - Tally.of(b | c)
+        self.assertEqual(
+            (str(t), t.weight(("a", "b")), t.on(crowd), t == Tally.read("+ 2 a - | c b")), ("+ 2 a - | b c", 1, 1, True)
+        )
+        self.assertEqual(
+            (str(Claim.more_in(a, b)), Claim.inside(a, b).holds(crowd), str(Claim.some(c).contrary())),
+            ("more + a - b", True, "least - c"),
         )
 
 

@@ -220,6 +220,51 @@ class Expressions(unittest.TestCase):
                 self.assertIsInstance(node.right, ast.Constant, (name, node.lineno))
 
 
+class Operators(unittest.TestCase):
+    def test_changes_in_place_are_by_literal_numbers(self):
+        for name, node in nodes(ast.AugAssign):
+            self.assertTrue(isinstance(node.value, ast.Constant) and isinstance(node.value.value, int), (name, node.lineno))
+
+    def test_classes_with_an_index(self):
+        for name, node in nodes(ast.ClassDef):
+            methods = {part.name: part for part in node.body if isinstance(part, ast.FunctionDef)}
+            if "__getitem__" in methods:
+                body = methods["__iter__"].body
+                self.assertEqual(len(body), 1, name)
+                self.assertTrue(ast.unparse(body[0]).startswith("raise TypeError("), name)
+        for path in FILES:
+            text = path.read_text(encoding="utf-8")
+            for word in ("(type)", "Meta", "metaclass="):
+                self.assertNotIn(word, text, path.name)
+        for name, node in nodes(ast.Attribute):
+            self.assertNotEqual(node.attr, "keys", name)
+
+    def test_results_of_special_methods(self):
+        for name, node in nodes(ast.FunctionDef):
+            for part in ast.walk(node):
+                if isinstance(part, ast.Return) and node.name in ("__len__", "__str__", "__bool__"):
+                    told = ast.unparse(part.value)
+                    allowed = {"__len__": "len(", "__str__": ("str(", "f'"), "__bool__": "bool("}[node.name]
+                    self.assertTrue(told.startswith(allowed), (name, told))
+
+    def test_not_implemented_is_returned_where_it_may_be(self):
+        allowed = SPECIAL - {"__init__", "__len__", "__str__", "__bool__", "__iter__", "__getitem__", "__neg__", "__invert__"}
+        for name, node in nodes(ast.FunctionDef):
+            for part in ast.walk(node):
+                if isinstance(part, ast.Name) and part.id == "NotImplemented":
+                    self.assertIn(node.name, allowed, name)
+        returned = [node.value for _, node in nodes(ast.Return) if isinstance(node.value, ast.Name)]
+        self.assertEqual(
+            len([node for node in returned if node.id == "NotImplemented"]),
+            len([node for _, node in nodes(ast.Name) if node.id == "NotImplemented"]),
+        )
+
+    def test_no_sort_and_no_reversed(self):
+        for name, node in nodes(ast.Call):
+            self.assertFalse(isinstance(node.func, ast.Attribute) and node.func.attr == "sort", name)
+            self.assertFalse(isinstance(node.func, ast.Name) and node.func.id == "reversed", name)
+
+
 class Names(unittest.TestCase):
     def bound(self):
         """All names that the package gives a meaning, except methods and attributes."""
@@ -262,6 +307,24 @@ class Names(unittest.TestCase):
                     self.assertNotIn(node.arg, taken, path.name)
                 elif isinstance(node, ast.Name) and isinstance(node.ctx, ast.Store):
                     self.assertNotIn(node.id, taken, path.name)
+
+    def test_names_of_class_methods_mean_nothing_else(self):
+        made, others = set(), set()
+        for _, node in nodes(ast.ClassDef):
+            for part in node.body:
+                if isinstance(part, ast.FunctionDef):
+                    told = {ast.unparse(decorator) for decorator in part.decorator_list}
+                    (made if told & {"classmethod", "staticmethod"} else others).add(part.name)
+        for _, node in nodes(ast.Attribute):
+            if isinstance(node.ctx, ast.Store):
+                others.add(node.attr)
+        self.assertEqual(made & (others | METHODS | {"keys"}), set())
+
+    def test_attributes_that_are_read_are_assigned(self):
+        assigned = {node.attr for _, node in nodes(ast.Attribute) if isinstance(node.ctx, ast.Store)}
+        for name, node in nodes(ast.Attribute):
+            if isinstance(node.ctx, ast.Load):
+                self.assertIn(node.attr, assigned | own_methods() | METHODS, (name, node.lineno))
 
     def test_special_methods(self):
         for name, node in nodes(ast.FunctionDef):

@@ -1,0 +1,91 @@
+"""The interface: what must exist, where it is defined, and how its parameters are called."""
+
+import ast
+import importlib
+import inspect
+import pathlib
+import unittest
+
+from mostcrowds import errors
+from mostcrowds.claims import Claim
+from mostcrowds.crowds import Crowd
+from mostcrowds.groups import Group
+from mostcrowds.tallies import Tally
+
+PACKAGE = pathlib.Path(__file__).resolve().parent.parent / "mostcrowds"
+ORDER = "__le__ __lt__ __ge__ __gt__ __eq__".split()
+
+FUNCTIONS = {
+    "kinds": ["kinds(names)"],
+    "deciding": ["possible(claims)", "example(claims)", "fewest(claims)", "follows(claims, claim)", "open_kinds(claims)", "fullest(claims)"],
+}
+CLASSES = {
+    ("groups", "Group"): [
+        "named(name)", "every()", "nothing()", "at_least(number, groups)", "read(text)", "has(kind)", "put(groups)",
+        "__and__", "__or__", "__sub__", "__xor__", "__invert__", "__bool__", "__str__", *ORDER,
+    ],
+    ("crowds", "Crowd"): [
+        "__init__(parts=())", "count(group)", "only(group)", "read(text)", "__getitem__", "__len__", "__bool__", "__add__", "__mul__",
+        "__rmul__", "__eq__", "__str__", "__iter__",
+    ],
+    ("tallies", "Tally"): [
+        "__init__(terms=())", "weight(kind)", "on(crowd)", "of(group)", "read(text)", "__add__", "__sub__", "__neg__", "__mul__",
+        "__rmul__", "__str__", *ORDER,
+    ],
+    ("claims", "Claim"): [
+        "__init__(word, tally)", "holds(crowd)", "put(groups)", "contrary()", "share(group, other, over, under)",
+        "more_in(group, other)", "inside(group, other)", "some(group)", "read(text)", "__eq__", "__str__",
+    ],
+}
+ATTRIBUTES = [
+    (Group.named("a"), ["names"]),
+    (Crowd(), ["parts", "size"]),
+    (Tally(), ["terms", "names"]),
+    (Claim("even", Tally()), ["word", "tally", "names"]),
+]
+
+
+def signature(told, skipped=()):
+    parameters = [one for one in inspect.signature(told).parameters.values() if one.name not in skipped]
+    return f"{told.__name__}({', '.join(str(one) for one in parameters)})"
+
+
+class Defined(unittest.TestCase):
+    def body(self, module):
+        return ast.parse((PACKAGE / f"{module}.py").read_text(encoding="utf-8")).body
+
+    def test_functions(self):
+        for module, told in FUNCTIONS.items():
+            found = {node.name for node in self.body(module) if isinstance(node, ast.FunctionDef)}
+            for text in told:
+                name = text.split("(")[0]
+                self.assertIn(name, found)
+                self.assertEqual(signature(getattr(importlib.import_module(f"mostcrowds.{module}"), name)), text)
+
+    def test_classes(self):
+        for (module, name), methods in CLASSES.items():
+            body = [node for node in self.body(module) if isinstance(node, ast.ClassDef) and node.name == name][0].body
+            found = {node.name for node in body if isinstance(node, ast.FunctionDef)}
+            made = getattr(importlib.import_module(f"mostcrowds.{module}"), name)
+            for text in methods:
+                self.assertIn(text.split("(")[0], found, name)
+                if "(" in text:
+                    self.assertEqual(signature(getattr(made, text.split("(")[0]), ("self", "cls")), text)
+
+    def test_errors(self):
+        found = {node.name for node in self.body("errors") if isinstance(node, ast.ClassDef)}
+        for name in (
+            "CrowdError InvalidName InvalidGroup InvalidTally InvalidClaim InvalidCrowd InvalidRow InvalidText InvalidCommand "
+            "Endless Refused NoRow NoMember"
+        ).split():
+            self.assertIn(name, found)
+            self.assertTrue(issubclass(getattr(errors, name), Exception))
+
+    def test_attributes_are_set_on_each_object(self):
+        for value, names in ATTRIBUTES:
+            for name in names:
+                self.assertIn(name, vars(value))
+
+
+if __name__ == "__main__":
+    unittest.main()
