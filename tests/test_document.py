@@ -7,6 +7,8 @@ from mostcrowds.crowds import Crowd
 from mostcrowds.deciding import follows
 from mostcrowds.groups import Group
 from mostcrowds.kinds import kinds
+from mostcrowds.papers import paper_holds
+from mostcrowds.shares import greatest, least
 from mostcrowds.tallies import Tally
 
 a, b, c = [Group.named(name) for name in ("a", "b", "c")]
@@ -19,6 +21,12 @@ class SectionOne(unittest.TestCase):
             (str(most), most.tally.weight(("a",)), most.tally.weight(("a", "b"))), ("least + 3 & a b - 2 a", -2, 1)
         )
         self.assertIs(follows([most, Claim.share(a, c, 1, 2)], Claim.share(a, b & c, 1, 6)), True)
+
+    def test_papers(self):
+        given = [Claim.share(a, b, 2, 3), Claim.share(a, c, 1, 2), Claim.share(a, b & c, 1, 6).contrary()]
+        self.assertEqual((paper_holds(given, (2, 3, 1)), paper_holds(given, (1, 1, 1))), (True, False))
+        two, three, one = [claim.tally.weight(("a", "b")) for claim in given]
+        self.assertEqual((two, three, one, 2 * two + 3 * three + one), (1, -1, 1, 0))
 
 
 class SectionFour(unittest.TestCase):
@@ -54,6 +62,16 @@ class SectionsFiveAndSix(unittest.TestCase):
         self.assertEqual(
             (str(Claim.more_in(a, b)), Claim.inside(a, b).holds(crowd), str(Claim.some(c).contrary())),
             ("more + a - b", True, "least - c"),
+        )
+
+
+class SectionNine(unittest.TestCase):
+    def test_shares(self):
+        given = [Claim.share(a, b, 3, 4), Claim.share(a, c, 3, 4)]
+        self.assertEqual(str(least(Tally.of(a & b & c), Tally.of(a), given)), "reached 1/2")
+        self.assertEqual(
+            (str(greatest(Tally.of(a & b), Tally.of(a), [Claim.some(a - b)])), str(greatest(Tally.of(a), Tally.of(b)))),
+            ("neared 1/1", "endless"),
         )
 
 

@@ -10,6 +10,7 @@ from mostcrowds import errors
 from mostcrowds.claims import Claim
 from mostcrowds.crowds import Crowd
 from mostcrowds.groups import Group
+from mostcrowds.shares import greatest
 from mostcrowds.tallies import Tally
 
 PACKAGE = pathlib.Path(__file__).resolve().parent.parent / "mostcrowds"
@@ -18,6 +19,12 @@ ORDER = "__le__ __lt__ __ge__ __gt__ __eq__".split()
 FUNCTIONS = {
     "kinds": ["kinds(names)"],
     "deciding": ["possible(claims)", "example(claims)", "fewest(claims)", "follows(claims, claim)", "open_kinds(claims)", "fullest(claims)"],
+    "papers": ["paper(claims)", "paper_holds(claims, value)"],
+    "shares": [
+        "greatest(top, bottom, claims=())", "least(top, bottom, claims=())", "share_paper(top, bottom, claims, value)",
+        "share_paper_holds(top, bottom, claims, value, shown)", "nearing(top, bottom, claims, value)",
+    ],
+    "cores": ["core(claims)", "cores(claims)", "needless(claims)", "thinned(claims)", "same_claims(claims, others)"],
 }
 CLASSES = {
     ("groups", "Group"): [
@@ -36,12 +43,14 @@ CLASSES = {
         "__init__(word, tally)", "holds(crowd)", "put(groups)", "contrary()", "share(group, other, over, under)",
         "more_in(group, other)", "inside(group, other)", "some(group)", "read(text)", "__eq__", "__str__",
     ],
+    ("shares", "Bound"): ["__eq__", "__str__"],
 }
 ATTRIBUTES = [
     (Group.named("a"), ["names"]),
     (Crowd(), ["parts", "size"]),
     (Tally(), ["terms", "names"]),
     (Claim("even", Tally()), ["word", "tally", "names"]),
+    (greatest(Tally(), Tally()), ["word", "value"]),
 ]
 
 

@@ -50,18 +50,27 @@ class ClaimRecipe:
     def __init__(self, word, terms):
         self.word = word
         self.terms = terms
+        self.known = {}
+
+    def worded(self, word):
+        return ClaimRecipe(word, self.terms)
 
     def claim(self):
-        return Claim(self.word, self.tally())
+        """The claim, the same object each time: as it never changes, no call may spoil it."""
+        if "claim" not in self.known:
+            self.known["claim"] = Claim(self.word, Tally([(number, group_of(recipe)) for number, recipe in self.terms]))
+        return self.known["claim"]
 
     def tally(self):
-        return Tally([(number, group_of(recipe)) for number, recipe in self.terms])
+        return self.claim().tally
 
     def names(self):
         return set().union(*[names_of(recipe) for _, recipe in self.terms])
 
     def weight(self, kind):
-        return sum(number for number, recipe in self.terms if has(recipe, kind))
+        if kind not in self.known:
+            self.known[kind] = sum(number for number, recipe in self.terms if has(recipe, kind))
+        return self.known[kind]
 
     def value(self, parts):
         return sum(self.weight(kind) * many for kind, many in parts)
@@ -79,15 +88,12 @@ class ClaimText(ClaimRecipe):
     """A claim told by its text."""
 
     def __init__(self, text):
-        self.told = Claim.read(text)
-        self.word = self.told.word
-        self.terms = self.told.tally.terms
+        claim = Claim.read(text)
+        super().__init__(claim.word, claim.tally.terms)
+        self.known["claim"] = claim
 
-    def claim(self):
-        return self.told
-
-    def tally(self):
-        return self.told.tally
+    def worded(self, word):
+        return ClaimText(f"{word} {self.tally()}")
 
     def names(self):
         return {name for _, group in self.terms for name in group.names}
@@ -96,7 +102,7 @@ class ClaimText(ClaimRecipe):
         return sum(number for number, group in self.terms if group.has(kind))
 
     def text(self):
-        return str(self.told)
+        return str(self.claim())
 
 
 def is_so(word, value):
