@@ -8,7 +8,7 @@ from mostcrowds.tallies import Tally, read_terms, weights
 LEAST = "least"
 MORE = "more"
 EVEN = "even"
-WORDS = (LEAST, MORE, EVEN)
+WORDS = ("least", "more", "even")
 
 
 class Claim:

@@ -111,7 +111,4 @@ def nearing(top, bottom, claims, value):
     names = names_of([top, bottom, *claims])
     upper, lower = weights(top, names), weights(bottom, names)
     system = [*system_of(claims, names), (MORE, lower), (MORE, excess(upper, lower, value))]
-    numbers = kept(system, len(lower))
-    if numbers is None:
-        return None
-    return crowd_of(numbers, names)
+    return crowd_of(kept(system, len(lower)), names)

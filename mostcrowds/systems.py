@@ -23,7 +23,9 @@ def system_of(claims, names):
 
 
 def crowd_of(numbers, names):
-    """The crowd with such a number of members of each kind of these ascending names."""
+    """The crowd with such a number of members of each kind of these ascending names; `None` if there are none."""
+    if numbers is None:
+        return None
     return Crowd(list(zip(kinds(names), numbers)))
 
 
