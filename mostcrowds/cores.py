@@ -22,7 +22,8 @@ def cores(claims):
     choices = [()]
     for _ in range(len(claims)):
         choices = one_longer(choices, len(claims))
-        found.extend([chosen for chosen in choices if is_new_core(claims, chosen, found)])
+        fresh = [chosen for chosen in choices if is_new_core(claims, chosen, found)]
+        found.extend(fresh)
     return tuple(found)
 
 
