@@ -2,6 +2,7 @@
 
 from mostcrowds.checks import is_count, is_integer
 from mostcrowds.errors import InvalidClaim, InvalidText
+from mostcrowds.kinds import names_of
 from mostcrowds.scaling import lowest
 from mostcrowds.tallies import Tally, read_terms, weights
 
@@ -89,7 +90,7 @@ def says_the_same(claim, other):
     """Whether claims have the same word and weights with the same proportions."""
     if claim.word != other.word:
         return False
-    names = sorted(set(claim.names + other.names))
+    names = names_of([claim, other])
     mine = lowest(weights(claim.tally, names))
     others = lowest(weights(other.tally, names))
     return mine == others or (claim.word == EVEN and mine == [-weight for weight in others])

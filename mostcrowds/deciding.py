@@ -1,7 +1,7 @@
 """Deciding for all crowds at once: whether claims can hold together, and what follows from them."""
 
-from mostcrowds.kinds import kinds
-from mostcrowds.systems import contraries, crowd_of, fewest_kept, fullest_kept, kept, names_of, system_of
+from mostcrowds.kinds import kinds, names_of
+from mostcrowds.systems import contraries, crowd_of, fewest_kept, fullest_kept, kept, system_of
 from mostcrowds.tallies import weights
 
 
@@ -19,7 +19,7 @@ def example(claims):
 def fewest(claims):
     """Some crowd that keeps all claims, with members of as few kinds as possible, or `None`."""
     names = names_of(claims)
-    return crowd_of(fewest_kept(system_of(claims, names), 1 << len(names)), names)
+    return crowd_of(fewest_kept([system_of(claims, names)], 1 << len(names)), names)
 
 
 def follows(claims, claim):

@@ -2,7 +2,7 @@
 
 from mostcrowds.checks import is_count, is_name, is_sequence
 from mostcrowds.errors import InvalidGroup, InvalidName
-from mostcrowds.kinds import all_kinds, columns
+from mostcrowds.kinds import all_sorts, columns, names_of
 from mostcrowds.reading import nothing_behind
 from mostcrowds.steps import AT, NAME, each_once, joined, names_in, read_steps, replaced, text_of, who
 
@@ -116,12 +116,12 @@ def both(sign, group, other):
 
 def table(group, names):
     """Which kinds of these ascending names are in a group, told as one integer: a binary digit for each kind."""
-    return who(group.steps, columns(names), all_kinds(names))
+    return who(group.steps, columns(names), all_sorts(1 << len(names)))
 
 
 def tables(group, other):
     """The tables of two groups for the names of both."""
-    names = sorted(set(group.names + other.names))
+    names = names_of([group, other])
     return table(group, names), table(other, names)
 
 

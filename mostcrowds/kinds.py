@@ -12,6 +12,11 @@ def kind_at(names, number):
     return tuple([name for at, name in enumerate(names) if (number >> at) & 1 == 1])
 
 
+def names_of(parts):
+    """The names in groups, tallies, claims, rows or programs, ascending."""
+    return sorted(set([name for part in parts for name in part.names]))
+
+
 def columns(names):
     """For each of the ascending names the kinds that have it.
 
@@ -32,6 +37,6 @@ def column(at, many):
     return having
 
 
-def all_kinds(names):
-    """All kinds of these different names, told as one integer."""
-    return (1 << (1 << len(names))) - 1
+def all_sorts(many):
+    """All of so many sorts of members, told as one integer."""
+    return (1 << many) - 1

@@ -2,8 +2,9 @@
 
 from mostcrowds.checks import is_integer
 from mostcrowds.claims import EVEN, MORE
+from mostcrowds.kinds import names_of
 from mostcrowds.scaling import lowest
-from mostcrowds.systems import margin, names_of, sum_of_products, system_of
+from mostcrowds.systems import margin, shown_by, sum_of_products, system_of
 
 
 def paper(claims):
@@ -23,14 +24,7 @@ def refuted(system, many):
     found = margin(system, many)
     if found.gain > 0:
         return None
-    prices = list(found.prices)
-    shown = []
-    for word, _ in system:
-        price = prices.pop(0)
-        if word == EVEN:
-            price = price - prices.pop(0)
-        shown.append(price)
-    return tuple(lowest(shown))
+    return tuple(lowest(shown_by(system, found)))
 
 
 def is_right(system, many, value):

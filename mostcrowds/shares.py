@@ -1,9 +1,10 @@
 """Shares: how much or how little of one tally another one can be."""
 
 from mostcrowds.claims import EVEN, LEAST, MORE
+from mostcrowds.kinds import names_of
 from mostcrowds.papers import is_right, refuted
 from mostcrowds.scaling import lowest
-from mostcrowds.systems import best, crowd_of, kept, names_of, negated, sum_of_products, system_of
+from mostcrowds.systems import best, crowd_of, kept, negated, sum_of_products, system_of
 from mostcrowds.tallies import weights
 
 NONE = "none"

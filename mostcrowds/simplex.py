@@ -8,6 +8,9 @@ the other sign, as its last row. All its items stand for fractions with one deno
 for the sign, a determinant of numbers that were passed, so the divisions by the scale leave no rest.
 """
 
+# So many steps are made by what an amount brings, all others by its number.
+BOLD_STEPS = 200
+
 
 class Optimum:
     """The greatest gain, amounts with this gain, and prices of the rows that show that there is no greater one.
@@ -28,7 +31,8 @@ def optimum(rows, limits, gains):
     outer = list(range(len(gains)))
     inner = list(range(len(gains), len(gains) + len(rows)))
     scale = 1
-    column = entering(table[-1], outer)
+    steps = 0
+    column = entering(table[-1], outer, True)
     while column is not None:
         row = leaving(table, inner, column)
         if row is None:
@@ -37,22 +41,31 @@ def optimum(rows, limits, gains):
         table = changed(table, scale, row, column)
         scale = pivot
         inner[row], outer[column] = outer[column], inner[row]
-        column = entering(table[-1], outer)
+        steps += 1
+        column = entering(table[-1], outer, steps < BOLD_STEPS)
     amounts = amounts_of(inner, [line[-1] for line in table[:-1]], len(gains) + len(rows))
     prices = amounts_of(outer, table[-1][:-1], len(gains) + len(rows))
     return Optimum(scale, table[-1][-1], amounts[:len(gains)], prices[len(gains):])
 
 
-def entering(goal, outer):
+def entering(goal, outer, is_bold):
     """The column of an amount that brings a gain; `None` if there is none.
 
-    Of several it is the one with the least number, here and in `leaving`: so no table comes again (Bland).
+    Of several it is the one that brings most for each unit, which is mostly the shortest way. But tables could come
+    again so; therefore later it is the one with the least number, as in `leaving`: then no table comes again (Bland).
     """
     found = None
     for column, amount in enumerate(outer):
-        if goal[column] < 0 and (found is None or amount < outer[found]):
+        if goal[column] < 0 and (found is None or is_better(goal, outer, column, found, is_bold)):
             found = column
     return found
+
+
+def is_better(goal, outer, column, other, is_bold):
+    """Whether the amount of a column is to be taken rather than that of another one."""
+    if is_bold and goal[column] != goal[other]:
+        return goal[column] < goal[other]
+    return outer[column] < outer[other]
 
 
 def leaving(table, inner, column):

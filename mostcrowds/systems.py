@@ -12,11 +12,6 @@ from mostcrowds.simplex import optimum
 from mostcrowds.tallies import weights
 
 
-def names_of(parts):
-    """The names in claims and tallies, ascending."""
-    return sorted(set([name for part in parts for name in part.names]))
-
-
 def system_of(claims, names):
     """The system of claims, for all kinds of these ascending names."""
     return [(claim.word, weights(claim.tally, names)) for claim in claims]
@@ -87,26 +82,87 @@ def kept(system, many):
     return lowest(found.amounts[:many])
 
 
-def fewest_kept(system, many):
-    """Numbers as `kept` tells them, of which as few as possible are above 0, or `None`."""
-    if kept(system, many) is None:
+def shown_by(system, found):
+    """One number for each claim, out of the prices of its rows: if the margin is 0, these are a right paper."""
+    prices = list(found.prices)
+    shown = []
+    for word, _ in system:
+        price = prices.pop(0)
+        if word == EVEN:
+            price = price - prices.pop(0)
+        shown.append(price)
+    return shown
+
+
+def fewest_kept(systems, many):
+    """Numbers as `kept` tells them for one of the systems, of which as few as possible are above 0, or `None`."""
+    fewest = None
+    most = many
+    for system in systems:
+        found = few_kept(system, many, most)
+        if found is not None:
+            fewest = found
+            most = len(support(found)) - 1
+    return fewest
+
+
+def support(numbers):
+    """The kinds that have members."""
+    return [kind for kind, number in enumerate(numbers) if number > 0]
+
+
+def few_kept(system, many, most):
+    """Numbers as `kept` tells them, of which as few as possible, and at most so many, are above 0, or `None`."""
+    found = kept(system, many)
+    if found is None:
         return None
     choices = [()]
-    found = first_kept(system, many, choices)
-    while found is None:
+    cuts = []
+    for _ in range(min(len(support(found)), most + 1)):
+        fewer = first_kept(system, many, choices, cuts)
+        if fewer is not None:
+            return fewer
         choices = one_longer(choices, many)
-        found = first_kept(system, many, choices)
-    return found
+    return found if len(support(found)) <= most else None
 
 
-def first_kept(system, many, choices):
-    """Numbers that keep a system and are 0 but for the first choice of kinds for which there are some, or `None`."""
+def first_kept(system, many, choices, cuts):
+    """Numbers that keep a system and are 0 but for the first choice of kinds for which there are some, or `None`.
+
+    If there are none, weights show it that count no kind of the choice above 0. Each crowd that keeps the system has
+    members of a kind that they do count above 0. These kinds are a cut: choices without any of them are left out.
+    """
     for chosen in choices:
-        found = kept([(word, [row[kind] for kind in chosen]) for word, row in system], len(chosen))
-        if found is not None:
-            numbers = {kind: number for kind, number in zip(chosen, found)}
-            return [numbers.get(kind, 0) for kind in range(many)]
+        tried = table_of(chosen)
+        if all([tried & cut != 0 for cut in cuts]):
+            among = with_kinds(system, chosen)
+            found = margin(among, len(chosen))
+            if found.gain > 0:
+                return spread(lowest(found.amounts[:len(chosen)]), chosen, many)
+            cuts.append(counted(system, shown_by(among, found), many))
     return None
+
+
+def with_kinds(system, chosen):
+    """The system with the weights for the kinds with these numbers alone, in this order."""
+    return [(word, [row[kind] for kind in chosen]) for word, row in system]
+
+
+def table_of(chosen):
+    """Some kinds, told as one integer."""
+    return sum([1 << kind for kind in chosen])
+
+
+def spread(numbers, chosen, many):
+    """The numbers for the chosen kinds, and 0 for all others."""
+    told = {kind: number for kind, number in zip(chosen, numbers)}
+    return [told.get(kind, 0) for kind in range(many)]
+
+
+def counted(system, shown, many):
+    """The kinds that claims with these weights count above 0 in sum, told as one integer."""
+    sums = [sum_of_products(shown, [row[kind] for _, row in system]) for kind in range(many)]
+    return table_of(support(sums))
 
 
 def one_longer(choices, many):

@@ -2,9 +2,10 @@
 
 from mostcrowds.checks import is_integer, is_number, is_sequence
 from mostcrowds.errors import InvalidTally, InvalidText
-from mostcrowds.groups import Group, table
+from mostcrowds.groups import Group
+from mostcrowds.kinds import all_sorts, columns, names_of
 from mostcrowds.reading import MOST_DIGITS, word_at
-from mostcrowds.steps import read_steps
+from mostcrowds.steps import read_steps, who
 
 SIGNS = {"+": 1, "-": -1}
 
@@ -19,7 +20,7 @@ class Tally:
         if not is_sequence(terms) or not all([is_term(term) for term in terms]):
             raise InvalidTally("terms")
         self.terms = tuple(terms)
-        self.names = tuple(sorted(set([name for _, group in self.terms for name in group.names])))
+        self.names = tuple(names_of([group for _, group in self.terms]))
 
     @classmethod
     def of(cls, group):
@@ -101,16 +102,21 @@ def multiplied(tally, number):
 
 def weights(tally, names):
     """What a single member of each kind of these ascending names counts, in the order of `kinds`."""
-    found = [0] * (1 << len(names))
+    return weights_where(tally, columns(names), 1 << len(names))
+
+
+def weights_where(tally, having, many):
+    """What a single member of each of so many sorts counts, if `having` tells which sorts have a name."""
+    found = [0] * many
     for number, group in tally.terms:
-        having = table(group, names)
-        found = [weight + number * ((having >> kind) & 1) for kind, weight in enumerate(found)]
+        inside = who(group.steps, having, all_sorts(many))
+        found = [weight + number * ((inside >> sort) & 1) for sort, weight in enumerate(found)]
     return found
 
 
 def at_most(tally, other):
     """Whether no member of any kind counts more than for the other tally."""
-    names = sorted(set(tally.names + other.names))
+    names = names_of([tally, other])
     return all([mine <= others for mine, others in zip(weights(tally, names), weights(other, names))])
 
 

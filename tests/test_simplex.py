@@ -62,7 +62,14 @@ class Optima(unittest.TestCase):
         self.assertGreater(len([found for found in told if found is not None and found.scale > 1]), 100)
 
     def test_tables_that_could_come_again(self):
-        # With the greatest gain first, the steps of these two go round in circles (Chvatal; Beale).
+        # With the greatest gain first, the steps of these two go round in circles (Chvatal; Beale): their weights are
+        # fractions, so the last two amounts stand for what is left of the limits, in the units of the fractions.
+        found = self.assert_optimum([[1, -11, -5, 18, 2, 0], [1, -3, -1, 2, 0, 2], [1, 0, 0, 0, 0, 0]], [0, 0, 1], [10, -57, -9, -24, 0, 0])
+        self.assertEqual(found.gain, found.scale)
+        found = self.assert_optimum(
+            [[25, -6000, -4, 900, 100, 0], [50, -9000, -2, 300, 0, 100], [0, 0, 1, 0, 0, 0]], [0, 0, 1], [75, -15000, 2, -600, 0, 0]
+        )
+        self.assertEqual(found.gain, 5 * found.scale)
         found = self.assert_optimum([[1, -11, -5, 18], [1, -3, -1, 2], [1, 0, 0, 0]], [0, 0, 1], [10, -57, -9, -24])
         self.assertEqual(found.gain, found.scale)
         found = self.assert_optimum([[25, -6000, -4, 900], [50, -9000, -2, 300], [0, 0, 1, 0]], [0, 0, 1], [75, -15000, 2, -600])
