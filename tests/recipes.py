@@ -39,6 +39,24 @@ def text_of(recipe):
     return " ".join([recipe[0]] + [text_of(part) for part in recipe[1:]])
 
 
+def read(text):
+    """The recipe with a text."""
+    return taken(text.split(" "))
+
+
+def taken(words):
+    """The recipe that words begin with; its words are taken away."""
+    word = words.pop(0)
+    if word in ("all", "none"):
+        return (word,)
+    if word == "~":
+        return (word, taken(words))
+    if word == "at":
+        number, many = int(words.pop(0)), int(words.pop(0))
+        return (word, number, [taken(words) for _ in range(many)])
+    return (word, taken(words), taken(words)) if word in PAIRED else word
+
+
 def names_of(recipe):
     if isinstance(recipe, str):
         return {recipe}

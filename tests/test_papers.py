@@ -9,7 +9,9 @@ from mostcrowds.papers import paper, paper_holds
 from mostcrowds.tallies import Tally
 
 from tests.recipes import made_recipe
-from tests.values import A, B, C, ClaimRecipe, ClaimText, any_values, is_so, kinds_of, made_claims
+from tests.values import (
+    A, B, C, ClaimRecipe, ClaimText, any_values, is_right_paper, is_so, made_claims, rows_over,
+)
 
 WORDS = ("least", "more", "even")
 
@@ -62,16 +64,7 @@ def as_claims(recipes, make=list):
 
 
 def is_right(recipes, value):
-    """What the document says of a right paper, worked out by sums over all kinds."""
-    if type(value) is not tuple or len(value) != len(recipes) or any(type(weight) is not int for weight in value):
-        return False
-    if any(weight < 0 for weight, recipe in zip(value, recipes) if recipe.word != "even"):
-        return False
-    if not any(weight > 0 for weight, recipe in zip(value, recipes) if recipe.word == "more"):
-        return False
-    return all(
-        sum(weight * recipe.weight(kind) for weight, recipe in zip(value, recipes)) <= 0 for kind in kinds_of(recipes)
-    )
+    return is_right_paper([recipe.word for recipe in recipes], rows_over(recipes), value)
 
 
 def spoilt(value, source):

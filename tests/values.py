@@ -7,11 +7,17 @@ import re
 
 from mostcrowds.claims import Claim
 from mostcrowds.crowds import Crowd
+from mostcrowds.deciding import example
 from mostcrowds.errors import InvalidName
 from mostcrowds.groups import Group
+from mostcrowds.papers import paper
+from mostcrowds.programs import Program
+from mostcrowds.rows import If, Let, Say, Stop, While
+from mostcrowds.runs import run
+from mostcrowds.shares import greatest
 from mostcrowds.tallies import Tally
 
-from tests.recipes import group_of, has, made_recipe, names_of, text_of
+from tests.recipes import group_of, has, made_recipe, names_of, read, text_of
 
 A, B, C = [Group.named(name) for name in ("a", "b", "c")]
 
@@ -28,12 +34,14 @@ def any_values():
         0, 1, -1, 2, 10 ** 40, -10 ** 40, True, False, None, "", " ", "a", "b", "abcde", "all", "at", "least", "more", "even",
         "0", "1", "nobody", "1 a", "+ a", "least + a", "say", "Stop", "word", "a\n", "parts",
         A, A & B, Group.nothing(), Crowd(), Crowd([(("a",), 2)]), Tally(), Tally([(1, A), (-2, B)]), Claim("least", Tally()),
-        Claim.some(A), InvalidName("a"),
+        Claim.some(A), InvalidName("a"), Let("a", B), If(Claim.some(A), [Stop()]), While(Claim.some(A), []), Say("a"), Stop(),
+        Program(), Program([Let("a", B)]), run(Program([Let("a", B)]), Crowd()), greatest(Tally(), Tally()),
     ]
     several = [make(rows) for make in (list, tuple) for rows in [
         [], [0], [1, 2], ["a"], ["a", "a"], ["a", "b"], [A], [1, A], [A, 1], [True, A], [(1, A)], [(True, A)], [[1, A]],
         [("a",), 1], [("a",), True], [("a",), -1], [("a", "a"), 1], ["a", 1], [[], 0], [None, None], [(("a",), 1)],
         [Claim.some(A)], [Claim.some(A), 1], [None], [[]], [()], [1, 2, 3], [(1, A), (1, "a")], [(1, A, B)],
+        [Stop()], [Stop(), 1], [[Stop()]], [Program()], ["bar", (1,)], ["same", ()],
     ]]
     deep = [nested(value, 8, make) for make in (list, tuple) for value in (0, "a", A, None)]
     return single + several + deep
@@ -84,25 +92,19 @@ class ClaimRecipe:
         return " ".join(words if self.terms else words + ["0"])
 
 
-class ClaimText(ClaimRecipe):
+class ClaimGiven(ClaimRecipe):
+    """A claim that is there already."""
+
+    def __init__(self, claim):
+        super().__init__(claim.word, [(number, read(str(group))) for number, group in claim.tally.terms])
+        self.known["claim"] = claim
+
+
+class ClaimText(ClaimGiven):
     """A claim told by its text."""
 
     def __init__(self, text):
-        claim = Claim.read(text)
-        super().__init__(claim.word, claim.tally.terms)
-        self.known["claim"] = claim
-
-    def worded(self, word):
-        return ClaimText(f"{word} {self.tally()}")
-
-    def names(self):
-        return {name for _, group in self.terms for name in group.names}
-
-    def weight(self, kind):
-        return sum(number for number, group in self.terms if group.has(kind))
-
-    def text(self):
-        return str(self.claim())
+        super().__init__(Claim.read(text))
 
 
 def is_so(word, value):
@@ -188,3 +190,33 @@ def keep(recipes, among=None):
     """Whether a crowd with members of some kinds only (`None`: all kinds of the names) keeps claims."""
     among = kinds_of(recipes) if among is None else among
     return can_be_kept([recipe.word for recipe in recipes], [[recipe.weight(kind) for kind in among] for recipe in recipes])
+
+
+def hold_together(recipes):
+    """Whether a crowd keeps claims: what the package answers, once a crowd or a paper has shown it."""
+    claims = [recipe.claim() for recipe in recipes]
+    crowd = example(claims)
+    if crowd is not None:
+        if not all(is_so(recipe.word, recipe.value(crowd.parts)) for recipe in recipes):
+            raise AssertionError(f"{crowd} does not keep the claims")
+        return True
+    shown = paper(claims)
+    if not is_right_paper([recipe.word for recipe in recipes], rows_over(recipes), shown):
+        raise AssertionError(f"{shown} is no right paper")
+    return False
+
+
+def rows_over(recipes):
+    kinds = kinds_of(recipes)
+    return [[recipe.weight(kind) for kind in kinds] for recipe in recipes]
+
+
+def is_right_paper(words, rows, value):
+    """What the document says of a right paper for claims with these words and weights, worked out by sums."""
+    if type(value) is not tuple or len(value) != len(words) or any(type(weight) is not int for weight in value):
+        return False
+    if any(weight < 0 for weight, word in zip(value, words) if word != "even"):
+        return False
+    if not any(weight > 0 for weight, word in zip(value, words) if word == "more"):
+        return False
+    return all(sum(weight * number for weight, number in zip(value, column)) <= 0 for column in zip(*rows))
