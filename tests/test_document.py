@@ -1,13 +1,18 @@
-"""The examples of the document that have landed."""
+"""The examples of the document, all of them."""
 
 import unittest
 
+from mostcrowds.always import alike, needed, parting
+from mostcrowds.bridges import bridge_holds
 from mostcrowds.claims import Claim
 from mostcrowds.crowds import Crowd
 from mostcrowds.deciding import follows
+from mostcrowds.desk import Desk
 from mostcrowds.groups import Group
 from mostcrowds.kinds import kinds
 from mostcrowds.papers import paper_holds
+from mostcrowds.programs import Program
+from mostcrowds.runs import run
 from mostcrowds.shares import greatest, least
 from mostcrowds.tallies import Tally
 
@@ -73,6 +78,43 @@ class SectionNine(unittest.TestCase):
             (str(greatest(Tally.of(a & b), Tally.of(a), [Claim.some(a - b)])), str(greatest(Tally.of(a), Tally.of(b)))),
             ("neared 1/1", "endless"),
         )
+
+
+class SectionEleven(unittest.TestCase):
+    def test_bridges(self):
+        first = [Claim.share(a, b, 1, 1), Claim.more_in(a, c)]
+        others = [Claim.inside(b, c)]
+        self.assertEqual((bridge_holds(first, others, Claim.some(b - c)), bridge_holds(first, others, Claim.some(b))), (True, False))
+
+
+class SectionThirteen(unittest.TestCase):
+    def test_runs(self):
+        program = Program.read("while more + a - b\nc = - a b\na = & a b\nsay cut\nend")
+        one = run(program, Crowd.read("5 a, 2 a b, 3 b"))
+        self.assertEqual(
+            (one.end, one.words, str(one["a"]), str(one["c"]), str(one.after)), ("ends", ("cut",), "2 a b", "5 a", "2 a b, 3 b, 5 c")
+        )
+        self.assertEqual(run(Program.read("while more + a\nb = a\nend"), Crowd.read("1 a")).end, "never")
+
+
+class SectionFifteen(unittest.TestCase):
+    def test_programs(self):
+        p = Program.read("if more + a - b\nc = a\nelse\nc = b\nend")
+        q = Program.read("c = | a b\nif least + a - b\nc = a\nend")
+        self.assertEqual(
+            (alike(p, q), len(parting(p, q)), alike(p, q, given=[Claim.inside(b, a)]), needed(p, "c")), (False, 2, True, ("a", "b"))
+        )
+
+
+class SectionSeventeen(unittest.TestCase):
+    def test_desks(self):
+        desk = Desk()
+        for command, told in [
+            ("crowd 5 a, 2 a b, 3 b", "10"), ("count - a b", "5"), ("know least + a - b", "1"), ("surely least + - a b - - b a", "yes"),
+            ("know more + b - a", "no"), ("program a = & a b ; say w", "2"), ("do", "w"), ("is even + - a b", "yes"),
+            ("sure even + - a b", "yes"), ("undo", "yes"), ("undo", "yes"), ("undo", "no"),
+        ]:
+            self.assertEqual(desk.say(command), told)
 
 
 if __name__ == "__main__":

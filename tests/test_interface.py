@@ -9,9 +9,14 @@ import unittest
 from mostcrowds import errors
 from mostcrowds.claims import Claim
 from mostcrowds.crowds import Crowd
+from mostcrowds.desk import Desk
 from mostcrowds.groups import Group
+from mostcrowds.programs import Program
+from mostcrowds.rows import If, Let, Say, While
+from mostcrowds.runs import run
 from mostcrowds.shares import greatest
 from mostcrowds.tallies import Tally
+from mostcrowds.ways import ways
 
 PACKAGE = pathlib.Path(__file__).resolve().parent.parent / "mostcrowds"
 ORDER = "__le__ __lt__ __ge__ __gt__ __eq__".split()
@@ -25,6 +30,17 @@ FUNCTIONS = {
         "share_paper_holds(top, bottom, claims, value, shown)", "nearing(top, bottom, claims, value)",
     ],
     "cores": ["core(claims)", "cores(claims)", "needless(claims)", "thinned(claims)", "same_claims(claims, others)"],
+    "bridges": ["bridge(claims, others)", "bridge_holds(claims, others, value)"],
+    "runs": ["run(program, crowd)"],
+    "ways": [
+        "ways(program)", "way_of(program, crowd)", "may_end(program, claims=())", "may_stop(program, claims=())",
+        "may_circle(program, claims=())", "measures(program)",
+    ],
+    "always": [
+        "alike(p, q, *, given=())", "parting(p, q, *, given=())", "tree(p, q, *, given=())", "tree_holds(p, q, value, *, given=())",
+        "sure(program, claim, *, given=())", "breach(program, claim, *, given=())", "settled(program, claim, *, given=())",
+        "needed(program, name, *, given=())",
+    ],
 }
 CLASSES = {
     ("groups", "Group"): [
@@ -44,6 +60,23 @@ CLASSES = {
         "more_in(group, other)", "inside(group, other)", "some(group)", "read(text)", "__eq__", "__str__",
     ],
     ("shares", "Bound"): ["__eq__", "__str__"],
+    ("rows", "Row"): [],
+    ("rows", "Let"): ["__init__(name, group)", "__eq__", "__str__"],
+    ("rows", "If"): ["__init__(claim, rows, others=())", "__eq__", "__str__"],
+    ("rows", "While"): ["__init__(claim, rows)", "__eq__", "__str__"],
+    ("rows", "Say"): ["__init__(word)", "__eq__", "__str__"],
+    ("rows", "Stop"): ["__init__()", "__eq__", "__str__"],
+    ("programs", "Program"): [
+        "__init__(rows=())", "without(at)", "replaced(at, row)", "read(text)", "__call__(crowd)", "__len__", "__getitem__", "__add__",
+        "__mul__", "__rmul__", "__eq__", "__str__", "__iter__",
+    ],
+    ("runs", "Outcome"): ["__getitem__", "__eq__", "__iter__"],
+    ("ways", "Way"): ["__getitem__", "__iter__"],
+    ("halls", "Hall"): [
+        "__init__(crowd=None)", "crowd", "gather(crowd)", "enter(kind, number=1)", "leave(kind, number=1)", "holds(claim)", "do(program)",
+        "several(programs)", "undo()", "trial()", "within(work)", "__getitem__", "__len__", "__iter__",
+    ],
+    ("desk", "Desk"): ["__init__()", "say(command)", "__len__"],
 }
 ATTRIBUTES = [
     (Group.named("a"), ["names"]),
@@ -51,12 +84,21 @@ ATTRIBUTES = [
     (Tally(), ["terms", "names"]),
     (Claim("even", Tally()), ["word", "tally", "names"]),
     (greatest(Tally(), Tally()), ["word", "value"]),
+    (Let("a", Group.every()), ["name", "group"]),
+    (If(Claim("even", Tally()), []), ["claim", "rows", "others"]),
+    (While(Claim("even", Tally()), []), ["claim", "rows"]),
+    (Say("w"), ["word"]),
+    (Program(), ["rows", "names"]),
+    (run(Program(), Crowd()), ["end", "words", "names", "after"]),
+    (run(Program.read("while even 0\nend"), Crowd()), ["end", "words", "names", "after"]),
+    (ways(Program())[0], ["signs", "end", "words", "claims"]),
+    (Desk(), ["hall", "claims", "program"]),
 ]
 
 
 def signature(told, skipped=()):
-    parameters = [one for one in inspect.signature(told).parameters.values() if one.name not in skipped]
-    return f"{told.__name__}({', '.join(str(one) for one in parameters)})"
+    found = inspect.signature(told)
+    return f"{told.__name__}{found.replace(parameters=[one for one in found.parameters.values() if one.name not in skipped])}"
 
 
 class Defined(unittest.TestCase):

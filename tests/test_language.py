@@ -2,6 +2,7 @@
 
 import ast
 import builtins
+import functools
 import pathlib
 import unittest
 import warnings
@@ -55,12 +56,14 @@ STATEMENTS = (
 )
 
 
+@functools.cache
 def parsed(path):
     with warnings.catch_warnings():
         warnings.simplefilter("error")
         return ast.parse(path.read_text(encoding="utf-8"))
 
 
+@functools.cache
 def nodes(kind):
     return [(path.name, node) for path in FILES for node in ast.walk(parsed(path)) if isinstance(node, kind)]
 
@@ -244,7 +247,7 @@ class Operators(unittest.TestCase):
             for part in ast.walk(node):
                 if isinstance(part, ast.Return) and node.name in ("__len__", "__str__", "__bool__"):
                     told = ast.unparse(part.value)
-                    allowed = {"__len__": "len(", "__str__": ("str(", "f'"), "__bool__": "bool("}[node.name]
+                    allowed = {"__len__": "len(", "__str__": ("str(", "f'", "'\\n'.join("), "__bool__": "bool("}[node.name]
                     self.assertTrue(told.startswith(allowed), (name, told))
 
     def test_not_implemented_is_returned_where_it_may_be(self):
@@ -258,6 +261,32 @@ class Operators(unittest.TestCase):
             len([node for node in returned if node.id == "NotImplemented"]),
             len([node for _, node in nodes(ast.Name) if node.id == "NotImplemented"]),
         )
+
+    def test_least_and_greatest_of_what_is_plainly_numbers(self):
+        for name, node in nodes(ast.Call):
+            if isinstance(node.func, ast.Name) and node.func.id in ("min", "max"):
+                told = node.args if len(node.args) > 1 else [node.args[0].elt]
+                plain = [isinstance(one, ast.Call) and ast.unparse(one.func) in ("len", "int") for one in told]
+                self.assertTrue(any(plain), (name, node.lineno))
+
+    def test_properties(self):
+        made = {}
+        for name, node in nodes(ast.ClassDef):
+            for part in node.body:
+                if isinstance(part, ast.FunctionDef) and [ast.unparse(told) for told in part.decorator_list] == ["property"]:
+                    made[part.name] = name
+                    self.assertEqual([ast.unparse(row).split(" ")[0] for row in part.body[1:]], ["return"])
+        self.assertEqual(made, {"crowd": "halls.py"})
+        for name, node in nodes(ast.Attribute):
+            if isinstance(node.ctx, ast.Store):
+                self.assertNotIn(node.attr, made, (name, node.lineno))
+
+    def test_rows_at_the_end_of_a_block(self):
+        for name, node in nodes(ast.FunctionDef):
+            if node.name == "__exit__":
+                self.assertEqual(ast.unparse(node.body[0]), "hall = self.hall")
+                for row in node.body[1:]:
+                    self.assertRegex(ast.unparse(row), r"\Ahall\.[a-z]+ = self\.[a-z]+\Z", name)
 
     def test_no_sort_and_no_reversed(self):
         for name, node in nodes(ast.Call):
@@ -320,10 +349,16 @@ class Names(unittest.TestCase):
                 others.add(node.attr)
         self.assertEqual(made & (others | METHODS | {"keys"}), set())
 
+    def test_attributes_are_assigned_through_plain_names(self):
+        for name, node in nodes(ast.Attribute):
+            if isinstance(node.ctx, ast.Store):
+                self.assertIsInstance(node.value, ast.Name, (name, node.lineno))
+
     def test_attributes_that_are_read_are_assigned(self):
         assigned = {node.attr for _, node in nodes(ast.Attribute) if isinstance(node.ctx, ast.Store)}
+        # The word setter stands in decorators alone, which other tests look at.
         for name, node in nodes(ast.Attribute):
-            if isinstance(node.ctx, ast.Load):
+            if isinstance(node.ctx, ast.Load) and node.attr != "setter":
                 self.assertIn(node.attr, assigned | own_methods() | METHODS, (name, node.lineno))
 
     def test_special_methods(self):

@@ -11,7 +11,7 @@ class Examples(unittest.TestCase):
     def test_examples(self):
         told = doctest.testfile(str(README), module_relative=False, encoding="utf-8")
         self.assertEqual(told.failed, 0)
-        self.assertGreater(told.attempted, 30)
+        self.assertGreater(told.attempted, 60)
 
 
 if __name__ == "__main__":
