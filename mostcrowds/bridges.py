@@ -15,9 +15,9 @@ def bridge(claims, others):
     if shown is None:
         return None
     mine = shown[:len(claims)]
+    shared = shared_names(claims, others)
     is_above = any([weight > 0 and claim.word == MORE for weight, claim in zip(mine, claims)])
-    told = lowest(greatest_sums(claims, mine, shared_names(claims, others)))
-    return Claim(MORE if is_above else LEAST, tally_of(told, shared_names(claims, others)))
+    return Claim(MORE if is_above else LEAST, tally_of(lowest(greatest_sums(claims, mine, shared)), shared))
 
 
 def bridge_holds(claims, others, value):
@@ -39,11 +39,11 @@ def shared_names(claims, others):
 def greatest_sums(claims, mine, shared):
     """For each kind of the shared names: what a member of such a kind counts at most in all claims, so weighted."""
     names = names_of(claims)
+    places = [names.index(name) for name in shared]
     rows = [row for _, row in system_of(claims, names)]
     found = [[] for _ in range(1 << len(shared))]
     for kind in range(1 << len(names)):
-        among = kind_among(kind, [names.index(name) for name in shared])
-        found[among].append(sum_of_products(mine, [row[kind] for row in rows]))
+        found[kind_among(kind, places)].append(sum_of_products(mine, [row[kind] for row in rows]))
     return [max([int(value) for value in values]) for values in found]
 
 

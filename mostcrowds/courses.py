@@ -4,7 +4,6 @@ from mostcrowds.claims import MORE
 from mostcrowds.groups import table
 from mostcrowds.kinds import names_of
 from mostcrowds.systems import kept, system_of
-from mostcrowds.walks import NEVER
 from mostcrowds.ways import ways
 
 

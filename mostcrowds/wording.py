@@ -34,12 +34,14 @@ def parted(named, outer, inner):
 def tally_of(row, names):
     """A tally with these weights for the kinds of these ascending names.
 
-    It counts each group of those who are in all groups of some names: by what a member of just these counts beyond what
-    it is counted already in larger groups.
+    It counts, for each choice of names, those who are in all of their groups, by what they count beyond what they are
+    counted already for fewer of these names.
     """
     found = list(row)
     for at in range(len(names)):
-        found = [weight - found[kind - (1 << at)] * ((kind >> at) & 1) for kind, weight in enumerate(found)]
+        found = [
+            weight - found[kind ^ (1 << at)] if (kind >> at) & 1 == 1 else weight for kind, weight in enumerate(found)
+        ]
     return Tally([(number, in_all(kind)) for kind, number in zip(kinds(names), found) if number != 0])
 
 

@@ -7,10 +7,10 @@ import itertools
 import random
 
 from tests.programs import (
-    each_row, kind_recipe, kinds_in_order, made_parts, made_programs, made_test, names_in, plain_ways, ran, weighted_claim,
+    each_row, kind_recipe, kinds_in_order, made_parts, made_programs, made_test, names_in, plain_ways, ran,
 )
 from tests.recipes import made_recipe
-from tests.values import ClaimRecipe, ClaimText, can_be_kept, hold_together, is_so, made_claim
+from tests.values import ClaimRecipe, ClaimText, can_be_kept, hold_together, is_so
 
 WORDS = ("least", "more", "even")
 

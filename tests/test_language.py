@@ -124,6 +124,13 @@ class Imports(unittest.TestCase):
                 found.add(node.targets[0].id)
         return found
 
+    def test_all_are_used(self):
+        for path in FILES:
+            used = {node.id for node in ast.walk(parsed(path)) if isinstance(node, ast.Name)}
+            for node in ast.walk(parsed(path)):
+                if isinstance(node, ast.ImportFrom):
+                    self.assertLessEqual({alias.name for alias in node.names}, used, path.name)
+
     def test_no_circle(self):
         needed = {
             path.stem: {
